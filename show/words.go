@@ -1,6 +1,7 @@
 package show
 
 import (
+	"strconv"
 	"strings"
 
 	"plait/api"
@@ -21,6 +22,12 @@ var words = [...]string{
 	api.OpComp: "bvcomp", api.OpConcat: "concat", api.OpExtract: "extract",
 	api.OpZext: "zero_extend", api.OpSext: "sign_extend", api.OpRotl: "rotate_left", api.OpRotr: "rotate_right", api.OpRepeat: "repeat",
 }
+
+// listed joins words to the text of a list.
+func listed(parts ...string) string { return "(" + strings.Join(parts, " ") + ")" }
+
+// letName is the k-th word that a let may bind.
+func letName(k int) string { return "?" + strconv.Itoa(k) }
 
 // quoted puts a name that read doesn't take in bars, where bars can hold it.
 func quoted(name string) string {

@@ -12,8 +12,16 @@ import (
 // writer: of one text.
 type writer struct {
 	graph *term.Graph
+	named [api.MaxTerms + 1]int // by a node's number, that of the word that stands for it; 0: it is written out
 	text  strings.Builder
 	long  bool // it would be above MaxShow: nothing is written any more
+}
+
+func (w *writer) answer() (string, api.Errno) {
+	if w.long {
+		return "", api.ErrShowLong
+	}
+	return w.text.String(), api.OK
 }
 
 func (w *writer) put(parts ...string) {
@@ -31,6 +39,10 @@ func (w *writer) term(id int) {
 	if w.long {
 		return
 	}
+	if k := w.named[id]; k != 0 {
+		w.put(letName(k))
+		return
+	}
 	n, _ := w.graph.Node(id)
 	switch n.Op {
 	case api.OpConst:
@@ -40,8 +52,7 @@ func (w *writer) term(id int) {
 		w.put(quoted(n.Name))
 		return
 	}
-	w.put("(")
-	w.head(n)
+	w.put("(", head(n))
 	operands := [...]int{n.A, n.B, n.C}
 	for _, a := range operands[:term.Arity(n.Op)] {
 		w.put(" ")
@@ -50,13 +61,12 @@ func (w *writer) term(id int) {
 	w.put(")")
 }
 
-func (w *writer) head(n api.Node) {
+func head(n api.Node) string {
 	switch n.Op {
 	case api.OpExtract:
-		w.put("(_ ", words[n.Op], " ", strconv.Itoa(n.P), " ", strconv.Itoa(n.Q), ")")
+		return listed("_", words[n.Op], strconv.Itoa(n.P), strconv.Itoa(n.Q))
 	case api.OpZext, api.OpSext, api.OpRotl, api.OpRotr, api.OpRepeat:
-		w.put("(_ ", words[n.Op], " ", strconv.Itoa(n.P), ")")
-	default:
-		w.put(words[n.Op])
+		return listed("_", words[n.Op], strconv.Itoa(n.P))
 	}
+	return words[n.Op]
 }
