@@ -104,11 +104,12 @@ func orderTags(op int) tags {
 	return tags{}
 }
 
-// rule tells whether a rule holds of a node whose operands are simplified and not all constants, and what comes of it: 0, if a node can't be had.
+// rule tells whether a rule holds of a node whose operands are simplified and not all constants, and what comes of it.
 func (w *walk) rule(n api.Node) (int, bool) {
 	switch n.Op {
 	case api.OpNot, api.OpBvNot, api.OpBvNeg:
-		return w.twice(n)
+		within := w.node(n.A)
+		return within.A, within.Op == n.Op
 	case api.OpIte:
 		return w.choice(n)
 	case api.OpExtract:
@@ -121,16 +122,6 @@ func (w *walk) rule(n api.Node) (int, bool) {
 		return n.A, n.P == 1
 	}
 	return w.pair(n)
-}
-
-// twice is for operators that undo themselves.
-func (w *walk) twice(n api.Node) (int, bool) {
-	within := w.node(n.A)
-	if within.Op != n.Op {
-		return 0, false
-	}
-	// Asked for once more: in a full graph a node may have stayed as it was around one that didn't.
-	return w.simple(within.A), true
 }
 
 func (w *walk) choice(n api.Node) (int, bool) {
@@ -170,7 +161,7 @@ func (w *walk) extract(n api.Node) (int, bool) {
 
 // extractOf tells the same bits, taken of a part in which their places are higher by so many.
 func (w *walk) extractOf(n api.Node, part, by int) int {
-	n.A, n.P, n.Q = w.simple(part), n.P+by, n.Q+by
+	n.A, n.P, n.Q = part, n.P+by, n.Q+by
 	return w.build(n)
 }
 

@@ -7,18 +7,18 @@ import (
 	"plait/term"
 )
 
-// walk simplifies terms of one bench, each node once.
+// walk simplifies terms in one sketch, each node once.
 type walk struct {
-	bench
+	*sketch
 	known map[int]int // by numbers: what was simplified
 }
 
-func newWalk(b bench) *walk {
+func newWalk(s *sketch) *walk {
 	// 0 stands for an operand that a node hasn't.
-	return &walk{bench: b, known: map[int]int{0: 0}}
+	return &walk{sketch: s, known: map[int]int{0: 0}}
 }
 
-// simple tells the number of the simplified term: the term itself, where a node can't be had.
+// simple tells the number of the simplified term.
 func (w *walk) simple(id int) int {
 	if s, ok := w.known[id]; ok {
 		return s
@@ -27,23 +27,37 @@ func (w *walk) simple(id int) int {
 	s := id
 	if term.Arity(n.Op) > 0 {
 		n.A, n.B, n.C = w.simple(n.A), w.simple(n.B), w.simple(n.C)
-		if built := w.build(n); built > 0 {
-			s = built
-		}
+		s = w.become(id, n)
 	}
 	w.known[id] = s
 	return s
 }
 
-// build tells the number of the simplified term with n's operator and operands, which are simplified; 0, if a node can't be had.
-func (w *walk) build(n api.Node) int {
-	if v, ok := w.folded(n); ok {
-		return w.constant(v)
+// become tells what a node is, now that its operands are simplified: n.
+func (w *walk) become(id int, n api.Node) int {
+	if s, ok := w.reduced(n); ok {
+		return s
 	}
-	if id, ok := w.rule(n); ok {
+	if n == w.node(id) {
 		return id
 	}
 	return w.lay(n)
+}
+
+// build tells the number of the simplified term with n's operator and operands, which are simplified.
+func (w *walk) build(n api.Node) int {
+	if s, ok := w.reduced(n); ok {
+		return s
+	}
+	return w.lay(n)
+}
+
+// reduced tells whether a node whose operands are simplified is another one by a rule, and which.
+func (w *walk) reduced(n api.Node) (int, bool) {
+	if v, ok := w.folded(n); ok {
+		return w.constant(v), true
+	}
+	return w.rule(n)
 }
 
 // folded tells the value of a node whose operands are all constants.

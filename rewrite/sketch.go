@@ -5,28 +5,17 @@ import (
 	"plait/term"
 )
 
-// bench: where a term is simplified.
-type bench interface {
-	node(id int) api.Node
-	// lay tells the number of the node with just these parts; 0, if it can't be had.
-	lay(n api.Node) int
-}
-
 // sketch: nodes beside a graph's own, which are made in the graph only when it has shown that the answer needs them: a graph forgets nothing.
 type sketch struct {
 	graph *term.Graph
 	first int              // the number of the first sketched node; the graph's own are below it
 	nodes []api.Node       // sketched
-	ids   map[api.Node]int // of the sketched nodes and of the term that is simplified: so no node has two numbers
+	ids   map[api.Node]int // of the graph's nodes and the sketched ones: so none has two numbers; nil until it is asked
 	made  map[int]int      // by sketched nodes' numbers: those that they have in the graph, 0 where it refused
 }
 
-func newSketch(g *term.Graph, id int) *sketch {
-	s := &sketch{graph: g, first: g.Len() + 1, ids: map[api.Node]int{}, made: map[int]int{}}
-	for _, part := range g.Cone(id) {
-		s.ids[s.node(part)] = part
-	}
-	return s
+func newSketch(g *term.Graph) *sketch {
+	return &sketch{graph: g, first: g.Len() + 1, made: map[int]int{}}
 }
 
 func (s *sketch) node(id int) api.Node {
@@ -37,8 +26,21 @@ func (s *sketch) node(id int) api.Node {
 	return n
 }
 
+// find tells the number of the node with just these parts; 0, if there was none in the graph and none is sketched.
+func (s *sketch) find(n api.Node) int {
+	// Many a term is simplified already: then nobody asks, and the graph isn't gone through.
+	if s.ids == nil {
+		s.ids = make(map[api.Node]int, s.first)
+		for id := 1; id < s.first; id++ {
+			s.ids[s.node(id)] = id
+		}
+	}
+	return s.ids[n]
+}
+
+// lay tells the number of the node with just these parts, sketched if it must be.
 func (s *sketch) lay(n api.Node) int {
-	if id, ok := s.ids[n]; ok {
+	if id := s.find(n); id > 0 {
 		return id
 	}
 	id := s.first + len(s.nodes)
@@ -47,7 +49,13 @@ func (s *sketch) lay(n api.Node) int {
 	return id
 }
 
-// settle makes a node and all that it is made of in the graph, and tells its number there; 0, if the graph refuses one.
+// several tells whether two nodes or more must be made for one.
+func (s *sketch) several(id int) bool {
+	n := s.node(id)
+	return id >= s.first && max(n.A, n.B, n.C) >= s.first
+}
+
+// settle makes a node and all that it is made of in the graph, and tells its number there; 0, if the graph refuses one: then it is full.
 func (s *sketch) settle(id int) int {
 	if id < s.first {
 		return id
@@ -61,19 +69,4 @@ func (s *sketch) settle(id int) int {
 	made, _ := s.graph.Make(n)
 	s.made[id] = made
 	return made
-}
-
-// full: a graph that has refused a node: Make adds no more to it, but tells what there is.
-type full struct {
-	graph *term.Graph
-}
-
-func (f full) node(id int) api.Node {
-	n, _ := f.graph.Node(id)
-	return n
-}
-
-func (f full) lay(n api.Node) int {
-	id, _ := f.graph.Make(n)
-	return id
 }
