@@ -127,7 +127,7 @@ func (w *walk) turn(ref, l int) bool {
 }
 
 // note puts a clause into the list of a literal that it watches from now on.
-func (w *walk) note(ref int, l int) {
+func (w *walk) note(ref, l int) {
 	c := code(l)
 	w.store.watches[c] = append(w.store.watches[c], ref)
 	w.moves = append(w.moves, move{ref, c})
