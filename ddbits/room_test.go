@@ -7,6 +7,7 @@ import (
 	"testing"
 
 	"plait/api"
+	"plait/eval"
 )
 
 // Of each operator, with room for each number of nodes up to plenty, and with diagrams of the caller's pinned ahead: told just as ever, or refused; refused where the answer itself has no room, told where there is room for some times the answer and the operands.
@@ -198,6 +199,11 @@ func TestUnneededBits(t *testing.T) {
 		{"a product moved out by a sum", 2, func(b *bench, x, y int) int {
 			return b.two(api.OpBvLshr, b.two(api.OpBvMul, x, y), b.two(api.OpBvAdd, b.number(128, 64), b.number(128, 64)))
 		}},
+		{"a product whose comparison and quotient aren't needed", 80, func(b *bench, x, y int) int {
+			short := func(id int) int { return b.node(api.Node{Op: api.OpExtract, A: id, P: 59}) }
+			product := b.two(api.OpBvMul, short(x), short(y))
+			return low(b, b.two(api.OpConcat, b.two(api.OpConcat, b.two(api.OpComp, product, short(x)), b.two(api.OpBvUrem, product, short(y))), product))
+		}},
 		{"a quotient rotated away", 6, func(b *bench, x, y int) int {
 			word := b.two(api.OpConcat, b.two(api.OpBvSdiv, b.node(api.Node{Op: api.OpExtract, A: x, P: 123}), b.node(api.Node{Op: api.OpExtract, A: y, P: 123})), b.node(api.Node{Op: api.OpExtract, A: x, P: 3}))
 			return high(b, b.node(api.Node{Op: api.OpRotr, A: word, P: 4}))
@@ -229,6 +235,27 @@ func TestNestedOnEitherSide(t *testing.T) {
 			}
 			b.checkFits("nested "+strconv.Itoa(op), id, 160, b.some(source, 50))
 		}
+	}
+}
+
+// Sums of wide words have no room; so these relations are made bit by bit, and the needier operand must come first there, too.
+func TestNestedWideRelations(t *testing.T) {
+	source := rand.New(rand.NewSource(15))
+	for _, right := range []bool{false, true} {
+		b := newBench(t)
+		x, y := b.variable("x", 128), b.variable("y", 128)
+		solution := b.some(source, 1)
+		id := b.two(api.OpEq, x, x)
+		for range 20 {
+			sum := b.two(api.OpBvAdd, x, b.two(api.OpBvXor, y, b.constant(value(128, source.Uint64(), source.Uint64()))))
+			v, _ := eval.Eval(b.terms, sum, solution[0])
+			part := b.two(api.OpEq, sum, b.constant(v))
+			if right {
+				id, part = part, id
+			}
+			id = b.two(api.OpAnd, id, part)
+		}
+		b.checkFits("nested relations", id, 4000, append(solution, b.some(source, 10)...))
 	}
 }
 
